@@ -1,0 +1,1 @@
+"""A laboratory for the replacement policies of a small cache."""
