@@ -1,8 +1,13 @@
 """The calls of one request, made on one new cache, and their answers."""
 
 from keepslots.callreader import CallReader
-from keepslots.limits import CapacityRefused, KeyRefused, PolicyRefused, SequenceRefused
-from keepslots.limits import check_capacity, check_key, check_policy, check_sequence
+from keepslots.extremes import farthest_from_minimum, most_different, shortest_anomaly
+from keepslots.limits import MAX_BOUND_SEPARATE, MAX_BOUND_WORST
+from keepslots.limits import CapacityRefused, KeyRefused, NoCapacityRefused, PolicyRefused
+from keepslots.limits import SearchRefused, SequenceRefused
+from keepslots.limits import check_capacity, check_key, check_policy, check_search, check_sequence
+from keepslots.limits import check_some_capacity
+from keepslots.offline import belady_evictions, optimal_evictions, phase_starts, replayed
 from keepslots.slotcache import Cache, cache_after
 
 
@@ -69,6 +74,79 @@ def answer_simulate(laboratory, reader):
     return [cache.misses] + listed(cache.cached_keys())
 
 
+def answer_optimal(laboratory, reader):
+    capacity = reader.take_number()
+    sequence = reader.take_row()
+    check_capacity(capacity)
+    check_sequence(sequence)
+    outcome = optimal_evictions(capacity, sequence)
+    return [outcome[0]] + listed(outcome[1])
+
+
+def answer_farthest(laboratory, reader):
+    capacity = reader.take_number()
+    sequence = reader.take_row()
+    check_capacity(capacity)
+    check_sequence(sequence)
+    outcome = belady_evictions(capacity, sequence)
+    return [outcome[0]] + listed(outcome[1])
+
+
+def answer_replay(laboratory, reader):
+    capacity = reader.take_number()
+    sequence = reader.take_row()
+    evictions = reader.take_row()
+    check_capacity(capacity)
+    check_sequence(sequence)
+    check_sequence(evictions)
+    return replayed(capacity, sequence, evictions)
+
+
+def answer_phases(laboratory, reader):
+    capacity = reader.take_number()
+    sequence = reader.take_row()
+    check_capacity(capacity)
+    check_some_capacity(capacity)
+    check_sequence(sequence)
+    return listed(phase_starts(capacity, sequence))
+
+
+def answer_separate(laboratory, reader):
+    first = reader.take_number()
+    second = reader.take_number()
+    capacity = reader.take_number()
+    key_bound = reader.take_number()
+    length = reader.take_number()
+    check_capacity(capacity)
+    check_policy(first)
+    check_policy(second)
+    check_search(key_bound, MAX_BOUND_SEPARATE, length)
+    outcome = most_different(first, second, capacity, key_bound, length)
+    return [outcome[0], outcome[1]] + listed(outcome[2])
+
+
+def answer_worst(laboratory, reader):
+    policy = reader.take_number()
+    capacity = reader.take_number()
+    key_bound = reader.take_number()
+    length = reader.take_number()
+    check_capacity(capacity)
+    check_policy(policy)
+    check_search(key_bound, MAX_BOUND_WORST, length)
+    outcome = farthest_from_minimum(policy, capacity, key_bound, length)
+    return [outcome[0], outcome[1]] + listed(outcome[2])
+
+
+def answer_anomaly(laboratory, reader):
+    policy = reader.take_number()
+    capacity = reader.take_number()
+    sequence = reader.take_row()
+    check_capacity(capacity)
+    check_policy(policy)
+    check_sequence(sequence)
+    return shortest_anomaly(policy, capacity, sequence)
+
+
 # Each operation reads all its arguments before it checks them,
 # so that after an error the next call is still found.
 OPERATIONS = {
@@ -79,6 +157,13 @@ OPERATIONS = {
     4: answer_next_victim,
     5: answer_counters,
     6: answer_simulate,
+    7: answer_optimal,
+    8: answer_farthest,
+    9: answer_replay,
+    10: answer_phases,
+    11: answer_separate,
+    12: answer_worst,
+    13: answer_anomaly,
 }
 
 
@@ -94,6 +179,10 @@ def answer_call(laboratory, reader):
         return [-3]
     except SequenceRefused:
         return [-4]
+    except NoCapacityRefused:
+        return [-5]
+    except SearchRefused:
+        return [-6]
 
 
 def answers(calls):

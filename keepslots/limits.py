@@ -4,6 +4,9 @@ MAX_CAPACITY = 6
 MAX_POLICY = 4
 MAX_KEY = 9
 MAX_LENGTH = 30
+MAX_BOUND_SEPARATE = 4
+MAX_BOUND_WORST = 3
+MAX_LENGTH_SEARCHED = 6
 
 
 class CapacityRefused(Exception):
@@ -19,7 +22,15 @@ class KeyRefused(Exception):
 
 
 class SequenceRefused(Exception):
-    """A sequence has more than 30 elements, or an element is not a key."""
+    """A sequence or a list of evictions has more than 30 elements, or an element is not a key."""
+
+
+class NoCapacityRefused(Exception):
+    """The capacity is 0, where at least 1 is asked for."""
+
+
+class SearchRefused(Exception):
+    """The bound of the keys or the length of a search is out of range."""
 
 
 def check_capacity(capacity):
@@ -47,3 +58,15 @@ def check_sequence(sequence):
     for element in sequence:
         if not is_key(element):
             raise SequenceRefused()
+
+
+def check_some_capacity(capacity):
+    if capacity == 0:
+        raise NoCapacityRefused()
+
+
+def check_search(key_bound, max_bound, length):
+    if not 1 <= key_bound <= max_bound:
+        raise SearchRefused()
+    if not 0 <= length <= MAX_LENGTH_SEARCHED:
+        raise SearchRefused()

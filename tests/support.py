@@ -1,5 +1,7 @@
 """What the tests share: writing calls, parting answers, and a model to compare with."""
 
+import itertools
+
 from keepslots.cachelab import answers
 
 FIRST_IN, LEAST_RECENT, MOST_RECENT, LEAST_FREQUENT, SECOND_CHANCE = range(5)
@@ -36,6 +38,34 @@ def simulate(capacity, policy, sequence):
     return [6, capacity, policy, len(sequence)] + list(sequence)
 
 
+def optimal(capacity, sequence):
+    return [7, capacity, len(sequence)] + list(sequence)
+
+
+def farthest(capacity, sequence):
+    return [8, capacity, len(sequence)] + list(sequence)
+
+
+def replay(capacity, sequence, evictions):
+    return [9, capacity, len(sequence)] + list(sequence) + [len(evictions)] + list(evictions)
+
+
+def phases(capacity, sequence):
+    return [10, capacity, len(sequence)] + list(sequence)
+
+
+def separate(first, second, capacity, key_bound, length):
+    return [11, first, second, capacity, key_bound, length]
+
+
+def worst(policy, capacity, key_bound, length):
+    return [12, policy, capacity, key_bound, length]
+
+
+def anomaly(policy, capacity, sequence):
+    return [13, policy, capacity, len(sequence)] + list(sequence)
+
+
 def parted(numbers):
     """The answers of a request, each a list, without the lengths before them."""
     found = []
@@ -58,6 +88,47 @@ def request(*calls):
 
 def last_answer(*calls):
     return request(*calls)[-1]
+
+
+def asked(calls):
+    """The answers to any number of calls that leave the cache alone, 60 to a request."""
+    calls = list(calls)
+    found = []
+    for start in range(0, len(calls), MOST_CALLS):
+        found += request(*calls[start:start + MOST_CALLS])
+    return found
+
+
+def mixed_numbers(seed, count, bound):
+    """Numbers below a bound that look mixed and are the same each time."""
+    found = []
+    for _ in range(count):
+        seed = (seed * 1103515245 + 12345) % 2 ** 31
+        found.append((seed >> 12) % bound)
+    return found
+
+
+def sequences_of(key_bound, length):
+    """All sequences of a kind, in lexicographic order."""
+    return [list(keys) for keys in itertools.product(range(key_bound), repeat=length)]
+
+
+def every_replay(capacity, sequence, cached=()):
+    """All pairs of misses and valid evictions, found by trying each cached key at each eviction."""
+    if not sequence:
+        return [(0, [])]
+    key, rest = sequence[0], sequence[1:]
+    if key in cached:
+        return every_replay(capacity, rest, cached)
+    if capacity == 0:
+        return [(1 + misses, tail) for misses, tail in every_replay(capacity, rest, cached)]
+    if len(cached) < capacity:
+        return [(1 + misses, tail) for misses, tail in every_replay(capacity, rest, cached + (key,))]
+    found = []
+    for victim in cached:
+        kept = tuple(other for other in cached if other != victim) + (key,)
+        found += [(1 + misses, [victim] + tail) for misses, tail in every_replay(capacity, rest, kept)]
+    return found
 
 
 class Model:

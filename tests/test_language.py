@@ -32,6 +32,12 @@ WORDS_NOWHERE = """
     namedtuple NamedTuple TypedDict TYPE_CHECKING abstractmethod
 """.split()
 
+NAMES_NOWHERE = """
+    register mro elements open input version_info with_traceback add_note attrgetter breakpoint builtins
+    compile copyright credits delattr dir eval exec exit gc getattr globals hasattr help id importlib license
+    locals methodcaller os quit setattr super type vars sys
+""".split()
+
 
 def package_files():
     return sorted(path for path in PACKAGE.rglob("*") if path.is_file() and "__pycache__" not in path.parts)
@@ -115,6 +121,17 @@ class Shape(unittest.TestCase):
                         self.assertIsNone(alias.asname)
                         self.assertIn(alias.name, bound_at_top(trees[source]), name)
 
+    def test_no_two_files_draw_from_one_another(self):
+        drawn = {}
+        for name, tree in parsed().items():
+            sources = [node.module for node in ast.walk(tree) if isinstance(node, ast.ImportFrom)]
+            drawn[name] = {source.partition(".")[2] for source in sources}
+        while drawn:
+            lowest = [name for name, sources in drawn.items() if not sources & set(drawn)]
+            self.assertNotEqual(lowest, [], f"a circle among {sorted(drawn)}")
+            for name in lowest:
+                del drawn[name]
+
     def test_functions_and_classes(self):
         for name, tree in parsed().items():
             for node in ast.walk(tree):
@@ -149,6 +166,24 @@ class Names(unittest.TestCase):
             for node in ast.walk(tree):
                 if isinstance(node, ast.Name):
                     self.assertIn(node.id, known, f"{name}:{node.lineno}")
+
+    def test_names_that_are_not_used(self):
+        for name, tree in parsed().items():
+            used = bound_at_top(tree) + bound_within(tree)
+            for node in ast.walk(tree):
+                if isinstance(node, ast.Name):
+                    used.append(node.id)
+                elif isinstance(node, ast.Attribute):
+                    used.append(node.attr)
+                elif isinstance(node, ast.FunctionDef):
+                    used.append(node.name)
+            self.assertEqual([word for word in used if word in NAMES_NOWHERE], [], name)
+
+    def test_locals_are_not_called_like_classes_and_imports(self):
+        for name, tree in parsed().items():
+            above = [alias.name for node in tree.body if isinstance(node, ast.ImportFrom) for alias in node.names]
+            above += [node.name for node in tree.body if isinstance(node, ast.ClassDef)]
+            self.assertEqual([word for word in bound_within(tree) if word in above], [], name)
 
     def test_methods_and_values_are_apart(self):
         methods, values, read = [], [], []

@@ -2,17 +2,8 @@
 
 import unittest
 
-from tests.support import FAR, MOST_CALLS, POLICIES, Model
+from tests.support import FAR, MOST_CALLS, POLICIES, Model, mixed_numbers
 from tests.support import access, configure, contents, counters, next_victim, remove, request, simulate
-
-
-def mixed_numbers(seed, count, bound):
-    """Numbers below a bound that look mixed and are the same each time."""
-    found = []
-    for _ in range(count):
-        seed = (seed * 1103515245 + 12345) % 2 ** 31
-        found.append((seed >> 12) % bound)
-    return found
 
 
 def all_requests():
