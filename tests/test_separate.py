@@ -71,21 +71,11 @@ class Extremal(unittest.TestCase):
                 expected = [misses[first][place], misses[second][place], length] + sequences[place]
                 self.assertEqual(request(separate(first, second, capacity, key_bound, length)), [expected])
 
-    def test_all_small_kinds(self):
-        for length in range(5):
+    def test_every_kind(self):
+        for length in range(7):
             for key_bound in range(1, 5):
-                for capacity in range(5):
+                for capacity in range(7):
                     self.check(capacity, key_bound, length)
-
-    def test_longer_kinds(self):
-        for key_bound in range(1, 5):
-            for capacity in range(7):
-                self.check(capacity, key_bound, 5)
-
-    def test_greatest_kinds(self):
-        for capacity in range(1, 4):
-            self.check(capacity, 3, 6)
-            self.check(capacity, 4, 6)
 
 
 class SeparateErrors(unittest.TestCase):

@@ -57,16 +57,11 @@ class Extremal(unittest.TestCase):
             expected = [told[place][0], minima[place], length] + sequences[place]
             self.assertEqual(request(worst(policy, capacity, key_bound, length)), [expected])
 
-    def test_all_small_kinds(self):
-        for length in range(6):
+    def test_every_kind(self):
+        for length in range(7):
             for key_bound in range(1, 4):
                 for capacity in range(7):
                     self.check(capacity, key_bound, length)
-
-    def test_greatest_kinds(self):
-        for capacity in range(1, 4):
-            self.check(capacity, 2, 6)
-            self.check(capacity, 3, 6)
 
 
 class WorstErrors(unittest.TestCase):
